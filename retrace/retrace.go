@@ -1,0 +1,80 @@
+// Package retrace: a stream editor whose runs can be undone: see DOC.md.
+package retrace
+
+import (
+	"retrace/api"
+	"retrace/journal"
+)
+
+// Editor is a run of a script that is under way.
+type Editor struct{}
+
+// Sum adds a text up (P3).
+func Sum(s string) int { return journal.Sum(s) }
+
+// Write writes the journal of some records (P4).
+func Write(l []api.Record, a string, b string) (string, api.Errno) {
+	if len(a) > api.MaxData || len(b) > api.MaxData {
+		return "", api.ErrLong
+	}
+	if !journal.AreRecords(l) {
+		return "", api.ErrArg
+	}
+	if !journal.Leads(l, a, b) {
+		return "", api.ErrMatch
+	}
+	h := journal.HeadOf(a, b)
+	return journal.Write(h, l), api.OK
+}
+
+// Read reads the records of a journal (P5).
+func Read(j string) ([]api.Record, api.Errno) {
+	if len(j) > api.MaxJournal {
+		return nil, api.ErrLong
+	}
+	_, l, ok := journal.Read(j)
+	if !ok {
+		return nil, api.ErrJournal
+	}
+	return l, api.OK
+}
+
+// Undo gives the text back from which a journal leads (P6).
+func Undo(b string, j string) (string, api.Errno) {
+	if len(b) > api.MaxData || len(j) > api.MaxJournal {
+		return "", api.ErrLong
+	}
+	h, l, ok := journal.Read(j)
+	if !ok {
+		return "", api.ErrJournal
+	}
+	if len(b) != h.LenB || journal.Sum(b) != h.SumB {
+		return "", api.ErrMatch
+	}
+	a, fits := journal.Undo(l, b)
+	if !fits || journal.Sum(a) != h.SumA {
+		return "", api.ErrMatch
+	}
+	return a, api.OK
+}
+
+// Pack brings a journal to its short form (P7).
+func Pack(j string) (string, api.Errno) { return "", api.OK }
+
+// Join makes one journal of two that lead on from one another (P8).
+func Join(j string, k string) (string, api.Errno) { return "", api.OK }
+
+// Find looks for the next match of an expression (P9).
+func Find(re string, s string, at int) (int, int, api.Errno) { return 0, 0, api.OK }
+
+// Check tells whether a text is a script, and of how many commands (P10).
+func Check(script string) (int, api.Errno) { return 0, api.OK }
+
+// Open begins a run (P11).
+func Open(script string, quiet bool, steps int, room int) (*Editor, api.Errno) { return nil, api.OK }
+
+// Feed gives the run more of its input (P12).
+func (e *Editor) Feed(s string) (string, api.Errno) { return "", api.OK }
+
+// Close says that the input ends here (P12).
+func (e *Editor) Close() (string, string, api.Errno) { return "", "", api.OK }
