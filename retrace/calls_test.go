@@ -114,6 +114,10 @@ func TestCallsRememberNothing(t *testing.T) {
 			wantRead(t, j, w.l, api.OK)
 			wantUndo(t, w.b+"\x00", strings.Repeat("x", 12353), "", api.ErrLong)
 			wantUndo(t, w.b, j, w.a, api.OK)
+			short := journalOf(modelOf(w.l).short(), w.a, w.b)
+			wantPack(t, j, short, api.OK)
+			wantJoin(t, j, "no journal", "", api.ErrJournal)
+			wantJoin(t, allKept(w.a), j, short, api.OK)
 		}
 	}
 }

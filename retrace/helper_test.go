@@ -138,3 +138,19 @@ func wantUndo(t *testing.T, b, j, a string, e api.Errno) {
 		t.Errorf("P6: Undo(%q, %q) = %q, %d, want %q, %d", clip(b), clip(j), clip(gotA), gotE, clip(a), e)
 	}
 }
+
+func wantPack(t *testing.T, j, p string, e api.Errno) {
+	t.Helper()
+	gotP, gotE := retrace.Pack(j)
+	if gotP != p || gotE != e {
+		t.Errorf("P7: Pack(%q) = %q, %d, want %q, %d", clip(j), clip(gotP), gotE, clip(p), e)
+	}
+}
+
+func wantJoin(t *testing.T, j, k, p string, e api.Errno) {
+	t.Helper()
+	gotP, gotE := retrace.Join(j, k)
+	if gotP != p || gotE != e {
+		t.Errorf("P8: Join(%q, %q) = %q, %d, want %q, %d", clip(j), clip(k), clip(gotP), gotE, clip(p), e)
+	}
+}

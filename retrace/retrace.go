@@ -59,10 +59,38 @@ func Undo(b string, j string) (string, api.Errno) {
 }
 
 // Pack brings a journal to its short form (P7).
-func Pack(j string) (string, api.Errno) { return "", api.OK }
+func Pack(j string) (string, api.Errno) {
+	if len(j) > api.MaxJournal {
+		return "", api.ErrLong
+	}
+	h, l, ok := journal.Read(j)
+	if !ok {
+		return "", api.ErrJournal
+	}
+	short := journal.Short(l)
+	return journal.Write(h, short), api.OK
+}
 
 // Join makes one journal of two that lead on from one another (P8).
-func Join(j string, k string) (string, api.Errno) { return "", api.OK }
+func Join(j string, k string) (string, api.Errno) {
+	if len(j) > api.MaxJournal || len(k) > api.MaxJournal {
+		return "", api.ErrLong
+	}
+	headJ, l, okJ := journal.Read(j)
+	if !okJ {
+		return "", api.ErrJournal
+	}
+	headK, m, okK := journal.Read(k)
+	if !okK {
+		return "", api.ErrJournal
+	}
+	if headJ.LenB != headK.LenA || headJ.SumB != headK.SumA {
+		return "", api.ErrMatch
+	}
+	joined := journal.Join(l, m)
+	h := journal.Head{LenA: headJ.LenA, LenB: headK.LenB, SumA: headJ.SumA, SumB: headK.SumB}
+	return journal.Write(h, joined), api.OK
+}
 
 // Find looks for the next match of an expression (P9).
 func Find(re string, s string, at int) (int, int, api.Errno) { return 0, 0, api.OK }
