@@ -3,6 +3,8 @@ package retrace
 
 import (
 	"retrace/api"
+	"retrace/commands"
+	"retrace/expression"
 	"retrace/journal"
 )
 
@@ -93,10 +95,32 @@ func Join(j string, k string) (string, api.Errno) {
 }
 
 // Find looks for the next match of an expression (P9).
-func Find(re string, s string, at int) (int, int, api.Errno) { return 0, 0, api.OK }
+func Find(re string, s string, at int) (int, int, api.Errno) {
+	if len(re) > api.MaxScript || len(s) > api.MaxRoom {
+		return 0, 0, api.ErrLong
+	}
+	e, behind, ok := expression.Read(re, 0)
+	if !ok || behind != len(re) {
+		return 0, 0, api.ErrScript
+	}
+	if at < 0 || at > len(s) {
+		return 0, 0, api.ErrArg
+	}
+	i, j := e.Find(s, at)
+	return i, j, api.OK
+}
 
 // Check tells whether a text is a script, and of how many commands (P10).
-func Check(script string) (int, api.Errno) { return 0, api.OK }
+func Check(script string) (int, api.Errno) {
+	if len(script) > api.MaxScript {
+		return 0, api.ErrLong
+	}
+	s, ok := commands.Read(script)
+	if !ok {
+		return 0, api.ErrScript
+	}
+	return len(s.Commands), api.OK
+}
 
 // Open begins a run (P11).
 func Open(script string, quiet bool, steps int, room int) (*Editor, api.Errno) { return nil, api.OK }
