@@ -1,6 +1,7 @@
 package expression
 
 import (
+	"slices"
 	"strings"
 	"testing"
 )
@@ -70,6 +71,23 @@ func TestFindEnds(t *testing.T) {
 			if i != -1 || j != -1 {
 				t.Fatalf("Find(%.20q) = %d, %d", re, i, j)
 			}
+		}
+	}
+}
+
+func TestMatchesDoNotOverlap(t *testing.T) {
+	for _, c := range []struct {
+		re, s string
+		want  []Span
+	}{
+		{"a", "", nil}, {"a", "bb", nil}, {"a", "aba", []Span{{0, 1}, {2, 3}}}, {"aa", "aaaaa", []Span{{0, 2}, {2, 4}}}, {"aba", "ababa", []Span{{0, 3}}},
+		{"a*", "", []Span{{0, 0}}}, {"a*", "aa", []Span{{0, 2}}}, {"a*", "baac", []Span{{0, 0}, {1, 3}, {4, 4}}}, {"x*", "ab", []Span{{0, 0}, {1, 1}, {2, 2}}},
+		{"^", "ab", []Span{{0, 0}}}, {"$", "ab", []Span{{2, 2}}}, {"^a", "aa", []Span{{0, 1}}}, {"a*$", "baa", []Span{{1, 3}}}, {"^$", "", []Span{{0, 0}}}, {"^$", "a", nil},
+	} {
+		e, _, _ := Read(c.re, 0)
+		got := e.Matches(c.s)
+		if !slices.Equal(got, c.want) {
+			t.Errorf("Matches of %q in %q = %v, want %v", c.re, c.s, got, c.want)
 		}
 	}
 }

@@ -14,6 +14,30 @@ func (e Expression) Find(s string, at int) (int, int) {
 	return nowhere, nowhere
 }
 
+// Span: a match, from where to where.
+type Span struct {
+	From int
+	To   int
+}
+
+// Matches answers all matches that do not overlap, from the first on; none that is empty begins where the one before ends.
+func (e Expression) Matches(s string) []Span {
+	var l []Span
+	ends := e.ends(s)
+	behind := nowhere
+	for i := 0; i >= 0 && i < len(ends); {
+		end := ends[i]
+		if end > i || end == i && i != behind {
+			l = append(l, Span{From: i, To: end})
+			behind = end
+			i = end
+		} else {
+			i++
+		}
+	}
+	return l
+}
+
 // ends answers for each place of a text the greatest one to which the expression matches from there, or nowhere. The items are laid on from the last to the first: so each meets each place once, however many ways there are to match.
 func (e Expression) ends(s string) []int {
 	m := matches{text: s}

@@ -6,10 +6,15 @@ import (
 	"retrace/commands"
 	"retrace/expression"
 	"retrace/journal"
+	"retrace/run"
 )
 
 // Editor is a run of a script that is under way.
-type Editor struct{}
+type Editor struct {
+	run    run.Run
+	death  api.Errno // by what the run died, if it did
+	closed bool
+}
 
 // Sum adds a text up (P3).
 func Sum(s string) int { return journal.Sum(s) }
@@ -112,21 +117,76 @@ func Find(re string, s string, at int) (int, int, api.Errno) {
 
 // Check tells whether a text is a script, and of how many commands (P10).
 func Check(script string) (int, api.Errno) {
-	if len(script) > api.MaxScript {
-		return 0, api.ErrLong
-	}
-	s, ok := commands.Read(script)
-	if !ok {
-		return 0, api.ErrScript
+	s, e := readScript(script)
+	if e != api.OK {
+		return 0, e
 	}
 	return len(s.Commands), api.OK
 }
 
+func readScript(script string) (commands.Script, api.Errno) {
+	if len(script) > api.MaxScript {
+		return commands.Script{}, api.ErrLong
+	}
+	s, ok := commands.Read(script)
+	if !ok {
+		return commands.Script{}, api.ErrScript
+	}
+	return s, api.OK
+}
+
 // Open begins a run (P11).
-func Open(script string, quiet bool, steps int, room int) (*Editor, api.Errno) { return nil, api.OK }
+func Open(script string, quiet bool, steps int, room int) (*Editor, api.Errno) {
+	s, e := readScript(script)
+	if e != api.OK {
+		return nil, e
+	}
+	if steps < 0 || steps > api.MaxSteps || room < 1 || room > api.MaxRoom {
+		return nil, api.ErrArg
+	}
+	r := run.Begin(s, quiet, steps, room)
+	return &Editor{run: r}, api.OK
+}
 
 // Feed gives the run more of its input (P12).
-func (e *Editor) Feed(s string) (string, api.Errno) { return "", api.OK }
+func (e *Editor) Feed(s string) (string, api.Errno) {
+	if e == nil || e.closed {
+		return "", api.ErrClosed
+	}
+	if e.death != api.OK {
+		return "", e.death
+	}
+	if len(s) > api.MaxData-e.run.Fed() {
+		return "", api.ErrLong
+	}
+	out, death := e.run.Feed(s)
+	if death != api.OK {
+		// Of a dead run nothing is asked for any more but its error.
+		*e = Editor{death: death}
+	}
+	return out, death
+}
 
 // Close says that the input ends here (P12).
-func (e *Editor) Close() (string, string, api.Errno) { return "", "", api.OK }
+func (e *Editor) Close() (string, string, api.Errno) {
+	if e == nil || e.closed {
+		return "", "", api.ErrClosed
+	}
+	out, j, death := e.finish()
+	// Of a closed editor nothing is asked for any more.
+	*e = Editor{closed: true}
+	return out, j, death
+}
+
+// finish lets the run go on to its end.
+func (e *Editor) finish() (string, string, api.Errno) {
+	if e.death != api.OK {
+		return "", "", e.death
+	}
+	out, death := e.run.Close()
+	if death != api.OK {
+		return out, "", death
+	}
+	j := e.run.Journal()
+	return out, j, api.OK
+}
